@@ -1,0 +1,1 @@
+"""Measurewise: a language of quantities whose units are found."""
