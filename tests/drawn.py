@@ -4,6 +4,19 @@ NAMES = ("a", "b", "x", "speed", "abcdefgh", "iff", "units")
 UNITS = (None, (), (), (("m", 1),), (("m", 1), ("s", -2)), (("kg", -9), ("m", 9)))
 
 
+def chain(depth, leaf):
+    """An expression just so deep, with so many nodes."""
+    return leaf if depth == 1 else ("negative", chain(depth - 1, leaf))
+
+
+def broad(nodes, leaf):
+    """An expression with so many nodes, as flat as can be."""
+    if nodes <= 2:
+        return chain(nodes, leaf)
+    left = (nodes - 1) // 2
+    return ("times", broad(left, leaf), broad(nodes - 1 - left, leaf))
+
+
 def number(source):
     unit = source.choice(UNITS)
     if unit is None or source.random() < 0.2:

@@ -41,7 +41,7 @@ def faults(name, source, methods=()):
         for check in CHECKS:
             found.extend(f"{fault} (line {getattr(node, 'lineno', 0)})" for fault in check(node))
         found.extend(method_faults(node, methods))
-    return found + class_faults(tree) + name_faults(tree)
+    return found + class_faults(tree) + name_faults(tree) + place_faults(tree)
 
 
 def file_faults(name, source):
@@ -208,7 +208,8 @@ def class_faults(tree):
 def name_faults(tree):
     """Of names by themselves; methods and values of objects are looked at elsewhere."""
     methods = [part for node in ast.walk(tree) if isinstance(node, ast.ClassDef) for part in node.body]
-    shut = [name for node in tree.body if isinstance(node, (ast.ClassDef, ast.ImportFrom)) for name in names_bound(node)]
+    tops = [node for node in tree.body if isinstance(node, (ast.ClassDef, ast.ImportFrom))]
+    shut = [name for node in tops for name in names_bound(node)]
     bound, used = [], []
     for node in ast.walk(tree):
         if isinstance(node, ast.Name):
@@ -225,6 +226,59 @@ def name_faults(tree):
     found += [f"L17 {name}" for name in bound + inner + used if name in SILENT]
     found += [f"L8 {name}" for name in used if name in dir(builtins) and name not in OWN]
     return found
+
+
+def place_faults(tree):
+    """Of what may stand at some places alone: classes, what is walked on the spot, lists and dicts of the top."""
+    above = {kid: node for node in ast.walk(tree) for kid in ast.iter_child_nodes(node)}
+    classes = [node.name for node in tree.body if isinstance(node, ast.ClassDef)]
+    kept = [name for node in tree.body if isinstance(node, ast.Assign) and isinstance(node.value, (ast.List, ast.Dict))
+            for name in names_bound(node)]
+    found = []
+    for node in ast.walk(tree):
+        over = above.get(node)
+        if isinstance(node, ast.Name) and isinstance(node.ctx, ast.Load):
+            if node.id in classes and not class_may_stand(node, over, above):
+                found.append(f"L18 {node.id} (line {node.lineno})")
+            if node.id in kept and not list_may_stand(node, over):
+                found.append(f"L15 {node.id} (line {node.lineno})")
+        if isinstance(node, ast.Call) and called(node) in WALKED and not walk_may_stand(node, over):
+            found.append(f"L23 {called(node)} (line {node.lineno})")
+        # Narrower than L24 on purpose: the package has no need of sets.
+        if isinstance(node, ast.Call) and called(node) in ("set", "frozenset"):
+            found.append(f"L24 {called(node)} (line {node.lineno})")
+    return found
+
+
+WALKED = ("zip", "enumerate", "reversed", "range", "items", "keys", "values")
+WALKERS = ("list", "tuple", "dict", "sorted", "sum", "any", "all", "enumerate", "zip", "reversed", "min", "max", "join")
+LOOKERS = ("len", "list", "tuple", "dict", "sorted")
+
+
+def called(node):
+    return node.func.attr if isinstance(node.func, ast.Attribute) else getattr(node.func, "id", "")
+
+
+def class_may_stand(node, over, above):
+    if isinstance(over, ast.Tuple):
+        over = above[over]
+    if isinstance(over, ast.Call):
+        return over.func is node or called(over) == "isinstance"
+    return isinstance(over, (ast.ClassDef, ast.ExceptHandler, ast.Attribute))
+
+
+def list_may_stand(node, over):
+    if isinstance(over, (ast.Subscript, ast.For, ast.comprehension, ast.Compare)):
+        return not isinstance(getattr(over, "ctx", None), ast.Store)
+    if isinstance(over, ast.Call):
+        return called(over) in LOOKERS
+    return isinstance(over, ast.Attribute) and over.attr == "get"
+
+
+def walk_may_stand(node, over):
+    if isinstance(over, (ast.For, ast.comprehension)):
+        return over.iter is node
+    return isinstance(over, ast.Call) and called(over) in WALKERS
 
 
 def methods_of(sources):

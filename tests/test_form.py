@@ -45,7 +45,11 @@ class Package(unittest.TestCase):
 class Sight(unittest.TestCase):
     GOOD = ("x = (1, 2)\n\n\ndef f(a, b=1):\n    c = [k * 2 for k in a if k > b]\n    return f\"{c}\"\n",
             "from measurewise.errors import BadName\n\n\nclass A(BadName):\n    \"\"\"Why.\"\"\"\n\n"
-            "    def __init__(self, at):\n        self.at = at\n")
+            "    def __init__(self, at):\n        self.at = at\n",
+            "x = {1: 2}\n\n\nclass A:\n    pass\n\n\nclass B(A):\n    pass\n\n\ndef f(a):\n"
+            "    if isinstance(a, (A, B)):\n        return A()\n"
+            "    for k, v in a.items():\n        b = [v] + list(zip(k, v))\n"
+            "    return x[a] if b in x else x.get(2)\n")
     BAD = ("import re\n", "from math import gcd\n", "from .errors import BadName\n", "x = 1 / 2\n", "x = 1.5\n",
            "x = f(1)\n", "x = 1\nx = 2\n", "print(1)\n", "def f(*a):\n    return a\n", "def f(a=[]):\n    return a\n",
            "def f(a):\n    return 2 ** a\n", "def f(a):\n    return a is f\n", "def f(a):\n    return type(a)\n",
@@ -60,6 +64,10 @@ class Sight(unittest.TestCase):
            "class A:\n    x = 1\n", "class A:\n    def __add__(self, b):\n        return b\n",
            "class A:\n    def f(self):\n        self.items = 1\n", "def f():\n" + "    pass\n" * 40,
            "x = '" + "a" * 120 + "'\n", "x = 1\n" * 401, "def f(a):\n    return f\"{a.b}\"\n",
+           "class A:\n    pass\n\n\ndef f(a):\n    return [A]\n", "def f(a):\n    b = zip(a, a)\n    return b\n",
+           "def f(a):\n    return a.items()\n", "def f(a):\n    return set(a)\n",
+           "x = [1]\n\n\ndef f():\n    return x\n", "x = [1]\n\n\ndef f():\n    x.append(2)\n",
+           "x = {1: 2}\n\n\ndef f(a):\n    x[a] = 2\n",
            "def f(a):\n    global b\n", "def f(a):\n    raise a\n", "class A:\n    pass\n\n\ndef f(A):\n    return A\n")
 
     def test_what_keeps_to_the_form(self):

@@ -337,10 +337,10 @@ class Refused(Case):
 
     def test_a_row_that_is_too_large(self):
         forty = "-a" + " + a" * 19
-        self.assertEqual(node_of(self.balanced(40)).size(), 40)
-        text = "show " + self.text_of(self.balanced(40))
-        self.ask(text, (("show", self.balanced(40)),))
-        text = "show " + self.text_of(self.balanced(41))
+        self.assertEqual(node_of(drawn.broad(40, A)).size(), 40)
+        text = "show " + self.text_of(drawn.broad(40, A))
+        self.ask(text, (("show", drawn.broad(40, A)),))
+        text = "show " + self.text_of(drawn.broad(41, A))
         self.refuse(text, len(text))
         self.refuse(text + "  ", len(text) + 2)
         self.refuse(text + "  \nshow a", len(text) + 2)
@@ -362,13 +362,6 @@ class Refused(Case):
         self.assertEqual(len(read("show " + "-" * 9 + "a")), 1)
         self.assertEqual(len(read("show a" + " + a" * 9)), 1)
         self.assertEqual(len(read("show " + "f(" * 9 + "a" + ")" * 9)), 1)
-
-    def balanced(self, nodes):
-        """An expression with so many nodes, as flat as can be."""
-        if nodes <= 2:
-            return A if nodes == 1 else ("negative", A)
-        left = (nodes - 1) // 2
-        return ("times", self.balanced(left), self.balanced(nodes - 1 - left))
 
     def text_of(self, told):
         if told[0] == "name":

@@ -42,21 +42,11 @@ def each_by_hand():
 
 
 def chain(depth):
-    """An expression just so deep, with so many nodes."""
-    told = A
-    for level in range(depth - 1):
-        told = ("negative", told)
-    return told
+    return drawn.chain(depth, A)
 
 
 def broad(nodes):
-    """An expression with so many nodes, as flat as can be."""
-    if nodes == 1:
-        return A
-    if nodes == 2:
-        return ("negative", A)
-    left = (nodes - 1) // 2
-    return ("plus", broad(left), broad(nodes - 1 - left))
+    return drawn.broad(nodes, A)
 
 
 class Made(unittest.TestCase):
