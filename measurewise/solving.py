@@ -8,7 +8,7 @@ names are lessened by them, so that the numbers stay small, however many equatio
 from measurewise.errors import BadNumber
 from measurewise.fractions import common_divisor
 from measurewise.signs import is_whole, need_whole
-from measurewise.vectors import Step, lessened, marks_of, mixed, one_at, parted, reach_of
+from measurewise.vectors import Step, lessened, marks_of, mixed, one_at, parted, reach_of, rows_of
 
 MOST_UNKNOWNS = 240
 MOST_NAMES = 6
@@ -60,8 +60,7 @@ class Solution:
         return None
 
     def rows_told(self):
-        vectors = [step.vector for step in self.steps] + self.fixed
-        return [[vector[place] for vector in vectors] for place in range(self.unknowns)]
+        return rows_of([step.vector for step in self.steps] + self.fixed, self.unknowns)
 
 
 def clash_of(solution, equations, number, reach):

@@ -54,6 +54,11 @@ def divisor_of(one, other):
     return (greater, least, (greater - least * one) // other)
 
 
+def rows_of(vectors, count):
+    """The rows that vectors make side by side: of each of so many places what the vectors have there."""
+    return [[vector[place] for vector in vectors] for place in range(count)]
+
+
 def lessened(vector, steps):
     """A vector less so much of the steps that the least numbers from 0 on are left at their pivots."""
     rest = vector
