@@ -73,6 +73,20 @@ def kids_of(told):
     return list(told[1:])
 
 
+def with_kids(told, kids):
+    """An expression with other kids, as many as it has."""
+    word = told[0]
+    if word == "number" or word == "name":
+        return told
+    if word == "power":
+        return (word, kids[0], told[2])
+    if word == "loop":
+        return (word, told[1], kids[0], told[3], kids[1])
+    if word == "call":
+        return (word, told[1], tuple(kids))
+    return (word,) + tuple(kids)
+
+
 def is_expression(thing):
     """Whether a thing is told as an expression is, with no more nodes, and no deeper, than they may be.
 

@@ -82,7 +82,8 @@ def expression(source, scene, unit, depth):
     """An expression of a unit, not much deeper than told."""
     if depth <= 1 or source.random() < 0.1:
         return leaf(source, scene, unit)
-    words = ["negative", "plus", "minus", "times", "over", "power", "if", "loop"] + ["call"] * (2 if scene.functions else 0)
+    words = ["negative", "plus", "minus", "times", "over", "power", "if", "loop"]
+    words += ["call", "call"] if scene.functions else []
     word = source.choice(words)
     other = drawn_unit(source, scene)
     if word == "call":
