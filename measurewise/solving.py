@@ -36,12 +36,15 @@ class Spent:
 
 
 class Solution:
-    """All that fulfils the equations taken in so far, and what they have left open no more."""
+    """All that fulfils the equations taken in so far, and what they have left open no more.
 
-    def __init__(self, unknowns, names):
+    Steps and fixed are the vectors of open units and of names; these lists are replaced, never changed.
+    """
+
+    def __init__(self, unknowns, steps, fixed):
         self.unknowns = unknowns
-        self.steps = [Step(place, one_at(place, unknowns)) for place in range(unknowns)]
-        self.fixed = [[0] * unknowns for name in range(names)]
+        self.steps = steps
+        self.fixed = fixed
         self.spent = []
 
     def take_in(self, number, equation):
@@ -61,6 +64,12 @@ class Solution:
 
     def rows_told(self):
         return rows_of([step.vector for step in self.steps] + self.fixed, self.unknowns)
+
+
+def open_solution(unknowns, names):
+    """All exponents: no equation is taken in."""
+    steps = [Step(place, one_at(place, unknowns)) for place in range(unknowns)]
+    return Solution(unknowns, steps, [[0] * unknowns for name in range(names)])
 
 
 def clash_of(solution, equations, number, reach):
@@ -100,7 +109,7 @@ def shortened(factors, modulus):
 
 def solution_of(unknowns, names, equations):
     """What solved tells, of whatever counts."""
-    solution = Solution(unknowns, names)
+    solution = open_solution(unknowns, names)
     for number, equation in enumerate(equations):
         reach = solution.take_in(number, equation)
         if reach is not None:
@@ -116,11 +125,16 @@ def is_equation(thing, length):
     return all([is_whole(number) for number in thing])
 
 
-def solved(unknowns, names, equations):
+def need_equations(unknowns, names, equations):
+    """None, where these are counts and a list of equations; BadNumber."""
     need_whole(unknowns, 0, MOST_UNKNOWNS)
     need_whole(names, 0, MOST_NAMES)
     if not isinstance(equations, list) or len(equations) > MOST_EQUATIONS:
         raise BadNumber("no list of equations")
     if not all([is_equation(equation, unknowns + names) for equation in equations]):
         raise BadNumber("no equation")
+
+
+def solved(unknowns, names, equations):
+    need_equations(unknowns, names, equations)
     return solution_of(unknowns, names, equations)

@@ -4,8 +4,9 @@ A scene knows the names of units, of values with the units they have here, and o
 a dict from names to exponents while it is drawn.
 """
 
-from measurewise.forms import is_expression
-from measurewise.kinds import kinds_of
+from measurewise.errors import Steep
+from measurewise.forms import is_expression, kids_of, with_kids
+from measurewise.kinds import kind_of
 from measurewise.units import unit_of
 
 AMOUNTS = ((1, 1), (2, 1), (1, 2), (3, 4), (5, 1), (7, 3), (12, 1), (0, 1), (999999999, 1), (1, 1000))
@@ -115,7 +116,7 @@ def small_expression(source, scene, unit, depth):
 def program(source, depth=4):
     """A tuple (program, assumed): of each row None, or the units of its params and its result as they were drawn."""
     units = list("mskg")[:source.randint(0, 3)]
-    rows, assumed = [("unit", name) for name in units], [None] * len(units)
+    rows, kinds, assumed = [("unit", name) for name in units], [None] * len(units), [None] * len(units)
     scene = Scene(units, {}, {})
     for count in range(source.randint(1, 16 - len(units))):
         word = source.choice(["take", "let", "fun", "show", "show"])
@@ -136,9 +137,33 @@ def program(source, depth=4):
                 inner = inner.within(param, own)
             rows.append((word, name, tuple(names), small_expression(source, inner, unit, depth)))
         assumed.append([told_unit(own) for own in params.values()] + [told_unit(unit)])
-        kind = kinds_of(tuple(rows))[-1]
+        try:
+            kinds.append(kind_of(tuple(rows), kinds, len(rows) - 1))
+        except Steep:
+            # Units fit all the same, so it is the one refusal that may come.
+            rows.pop()
+            assumed.pop()
+            continue
         if word == "fun":
-            scene.functions[name] = kind
+            scene.functions[name] = kinds[-1]
         elif word != "show":
             scene.values[name] = unit
-    return (tuple(rows), assumed)
+    return (tuple(rows), assumed) if rows else program(source, depth)
+
+
+def spoilt_expression(source, told, units):
+    if told[0] == "number" and told[2] is not None and source.random() < 0.5:
+        return (told[0], told[1], ((source.choice(units), 1),))
+    return with_kids(told, [spoilt_expression(source, kid, units) for kid in kids_of(told)])
+
+
+def spoilt(source, program):
+    """The same, but some numbers of one row have another unit, so that it may be let by or not."""
+    units = [row[1] for row in program if row[0] == "unit"]
+    places = [place for place, row in enumerate(program) if row[0] in ("let", "fun", "show")]
+    if not units or not places:
+        return program
+    place = source.choice(places)
+    row = program[place]
+    row = row[:-1] + (spoilt_expression(source, row[-1], units),)
+    return program[:place] + (row,) + program[place + 1:]

@@ -249,33 +249,16 @@ class Clashes(Case):
         source = random.Random(83)
         seen = {"let by": 0, "clash": 0}
         for turn in range(200):
-            program = sound.program(source)[0]
-            if not names_of(program):
-                continue
-            number = source.randrange(len(program))
-            wrong = program[:number] + (self.changed(source, program[number]),) + program[number + 1:]
+            wrong = sound.spoilt(source, sound.program(source)[0])
             try:
                 self.kinds(wrong)
                 seen["let by"] += 1
             except Clash as refusal:
                 self.ask_parts(wrong, refusal)
                 seen["clash"] += 1
+            except Steep as refusal:
+                self.assertIn(refusal.row, range(len(wrong)))
         self.assertGreater(min(seen.values()), 30, seen)
-
-    def changed(self, source, told):
-        """The same with some units of numbers changed."""
-        if told[0] == "number" and told[2] is not None and source.random() < 0.5:
-            return (told[0], told[1], METRE)
-        if told[0] in ("unit", "take"):
-            return told
-        return tuple(self.changed_part(source, part) for part in told)
-
-    def changed_part(self, source, part):
-        if not isinstance(part, tuple) or not part or part[0] in ("x", "y", "z"):
-            return part
-        if isinstance(part[0], tuple):
-            return tuple(self.changed(source, kid) for kid in part)
-        return self.changed(source, part) if isinstance(part[0], str) and len(part[0]) > 1 else part
 
 
 class SteepOnes(Case):
