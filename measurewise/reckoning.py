@@ -1,7 +1,6 @@
 """Nodes reckoned one behind the other, in a run that always comes to an end.
 
-Within, a value is a tuple (fraction, mark). What marks are the classes under Reckoner tell: those of a plain run are
-all None, those of a marked one units.
+Within, a value is a tuple (fraction, mark). The marks of a plain run are all None, those of a marked one units.
 """
 
 from measurewise.errors import Halted
@@ -15,8 +14,7 @@ MOST_FIGURES = 200
 class Reckoner:
     """What is known at a place of a run: values and functions of the rows ahead, and how many nodes were come to.
 
-    A class under it has mark_of(unit); like(mark, mark), of what has to have one unit; together(mark, mark, times), of
-    a product of the first one and so often the second one; raised(mark, exponent); and answer_of(value).
+    By itself it has no marks but None: a class under it tells what they are, and what an answer is.
     """
 
     def __init__(self):
@@ -24,6 +22,24 @@ class Reckoner:
         self.functions = {}
         self.counted = 0
         self.bound = whole_power(10, MOST_FIGURES)
+
+    def mark_of(self, unit):
+        return None
+
+    def like(self, one, other):
+        """The mark of two values that must have one unit."""
+        return None
+
+    def together(self, one, other, times):
+        """The mark of a product of a value and so many times another one."""
+        return None
+
+    def raised(self, one, exponent):
+        """The mark of a power."""
+        return None
+
+    def answer_of(self, value):
+        return value
 
     def outcome(self, program, taken):
         answers = []
@@ -120,19 +136,7 @@ def negated(value):
 
 
 class Plain(Reckoner):
-    """Reckons without units: all marks are None."""
-
-    def mark_of(self, unit):
-        return None
-
-    def like(self, one, other):
-        return None
-
-    def together(self, one, other, times):
-        return None
-
-    def raised(self, one, exponent):
-        return None
+    """Reckons without units."""
 
     def answer_of(self, value):
         return value[0]
