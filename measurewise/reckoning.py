@@ -65,32 +65,34 @@ class Reckoner:
         if self.counted == MOST_COUNTED:
             raise Halted("dry")
         self.counted = self.counted + 1
-        value = self.value_of(told, inner)
+        word = told[0]
+        if word == "number":
+            value = (told[1], self.mark_of(told[2]))
+        elif word == "name":
+            value = inner[told[1]] if told[1] in inner else self.worths[told[1]]
+        elif word == "if":
+            value = self.chosen(told, inner)
+        elif word == "loop":
+            value = self.looped(told, inner)
+        elif word == "call":
+            value = self.called(told, inner)
+        else:
+            value = self.of_kids(told, inner)
         if abs(value[0][0]) >= self.bound or value[0][1] >= self.bound:
             raise Halted("great")
         return value
 
-    def value_of(self, told, inner):
-        word = told[0]
-        if word == "number":
-            return (told[1], self.mark_of(told[2]))
-        if word == "name":
-            return inner[told[1]] if told[1] in inner else self.worths[told[1]]
-        if word == "if":
-            return self.chosen(told, inner)
-        if word == "loop":
-            return self.looped(told, inner)
-        if word == "call":
-            return self.called(told, inner)
-        # No comprehension here and below: that is a call more within one another on some Pythons.
+    def of_kids(self, told, inner):
+        """The value of a minus ahead, a power, a sum or a product."""
         found = []
+        # No comprehension: on some Pythons that is a call more within one another.
         for kid in kids_of(told):
             found.append(self.reckon(kid, inner))
-        if word == "negative":
+        if told[0] == "negative":
             return negated(found[0])
-        if word == "power":
+        if told[0] == "power":
             return self.to_power(found[0], told[2])
-        return self.of_two(word, found[0], found[1])
+        return self.of_two(told[0], found[0], found[1])
 
     def of_two(self, word, one, other):
         if word == "plus":
